@@ -3,9 +3,6 @@ package floodgate
 
 import "floodgate/api"
 
-// Mean unpacks a whole stream without quotas (P5).
-func Mean(format int, s string) (string, api.Errno) { return "", api.OK }
-
 // Gate unpacks a stream that comes in pieces.
 type Gate struct{}
 

@@ -1,0 +1,48 @@
+package floodgate
+
+// supply is what the machine may take bytes from.
+type supply struct {
+	pieces []string
+	at     int // how many bytes of the first piece are taken
+}
+
+func supplyOf(pieces ...string) supply {
+	return supply{pieces: pieces}
+}
+
+// next takes the next byte, and tells whether there is one.
+func (s *supply) next() (byte, bool) {
+	for len(s.pieces) > 0 && s.at == len(s.pieces[0]) {
+		s.pieces, s.at = s.pieces[1:], 0
+	}
+	if len(s.pieces) == 0 {
+		return 0, false
+	}
+	next := s.pieces[0][s.at]
+	s.at++
+	return next, true
+}
+
+// bits are those of the bytes taken that are not read yet.
+type bits struct {
+	held  uint64 // the next bit is the lowest
+	count int
+}
+
+func (b *bits) add(next byte) {
+	b.held |= uint64(next) << b.count
+	b.count += 8
+}
+
+// at tells a bit without reading it: 0 is the next one.
+func (b *bits) at(ahead int) int {
+	return int(b.held >> ahead & 1)
+}
+
+// read reads a number of so many bits, which are in hand.
+func (b *bits) read(count int) int {
+	number := b.held & (1<<count - 1)
+	b.held >>= count
+	b.count -= count
+	return int(number)
+}
