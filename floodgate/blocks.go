@@ -70,14 +70,6 @@ func (m *machine) endBlock() pause {
 		m.state = blockHead
 		return moving
 	}
-	m.state = memberEnd
+	m.state = memberSum
 	return m.skipBits()
-}
-
-// goBehindEnd takes a byte only to refuse it.
-func (m *machine) goBehindEnd() pause {
-	if standing := m.need(8); standing != moving {
-		return standing
-	}
-	return m.refuse(api.ErrTrail)
 }

@@ -6,9 +6,9 @@ import (
 	"floodgate/api"
 )
 
-// MeanByPieces goes through a Raw stream as Mean does, but is offered it in pieces of so many bytes, and drains so many bytes at a time. It tells how many bytes were taken, too.
-func MeanByPieces(s string, size, most int) (string, int, api.Errno) {
-	m := newMachine()
+// MeanByPieces goes through a stream as Mean does, but is offered it in pieces of so many bytes, and drains so many bytes at a time. It tells how many bytes were taken, too.
+func MeanByPieces(format int, s string, size, most int) (string, int, api.Errno) {
+	m := newMachine(format)
 	var out strings.Builder
 	taken := 0
 	for taken < len(s) && m.err == api.OK {

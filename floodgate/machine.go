@@ -10,7 +10,13 @@ import (
 type state int
 
 const (
-	blockHead state = iota
+	headFirst state = iota
+	headSecond
+	headMarks
+	headName
+	headNote
+	headCheck
+	blockHead
 	plainSizes
 	plainBytes
 	ownLiterals
@@ -25,6 +31,8 @@ const (
 	distanceSymbol
 	distanceNumber
 	copying
+	memberSum
+	memberSize
 	memberEnd
 )
 
@@ -40,12 +48,14 @@ const (
 
 // machine goes through a stream, and can stop at any byte.
 type machine struct {
+	format  int
 	state   state
 	err     api.Errno
 	supply  supply
 	bits    bits
 	waiting *ring.Ring[byte] // what is put out and not drained
 	window  *ring.Ring[byte] // what came out of this member last
+	member  member
 
 	last     bool // the block is the member's last one
 	left     int  // bytes of a plain block, or of a copy, that are still to come out
@@ -57,10 +67,32 @@ type machine struct {
 	distance int
 }
 
-func newMachine() *machine {
-	return &machine{
+// member is what is kept of the member that the machine is in, beside its window.
+type member struct {
+	marks   byte   // of its head
+	headSum byte   // of the bytes of its head so far
+	sum     sum    // of what came out of it
+	size    uint16 // how many bytes came out of it
+}
+
+// newMachine makes one for a format that there is.
+func newMachine(format int) *machine {
+	m := &machine{
+		format:  format,
 		waiting: ring.New[byte](api.Room),
 		window:  ring.New[byte](api.Window),
+	}
+	m.beginMember()
+	return m
+}
+
+// beginMember forgets the member before: nothing leads back into it.
+func (m *machine) beginMember() {
+	m.member = member{sum: emptySum()}
+	m.window.Clear()
+	m.state = headFirst
+	if m.format == api.Raw {
+		m.state = blockHead
 	}
 }
 
@@ -80,6 +112,8 @@ func (m *machine) run() pause {
 
 func (m *machine) step() pause {
 	switch m.state {
+	case headFirst, headSecond, headMarks, headName, headNote, headCheck:
+		return m.goThroughHead()
 	case blockHead:
 		return m.beginBlock()
 	case plainSizes, plainBytes:
@@ -88,8 +122,8 @@ func (m *machine) step() pause {
 		return m.goThroughOwn()
 	case rowSymbol, rowNumber:
 		return m.goThroughRow()
-	case memberEnd:
-		return m.goBehindEnd()
+	case memberSum, memberSize, memberEnd:
+		return m.goThroughEnd()
 	default:
 		return m.goThroughContent()
 	}
@@ -127,6 +161,8 @@ func (m *machine) put(b byte) pause {
 	}
 	m.waiting.Push(b)
 	m.window.Push(b)
+	m.member.sum.add(b)
+	m.member.size++
 	return moving
 }
 

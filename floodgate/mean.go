@@ -6,12 +6,12 @@ import (
 	"floodgate/api"
 )
 
-// Mean unpacks a whole stream without quotas (P5). Only Raw is built: of the other formats nothing is let through.
+// Mean unpacks a whole stream without quotas (P5).
 func Mean(format int, s string) (string, api.Errno) {
-	if format != api.Raw {
+	if !isFormat(format) {
 		return "", api.ErrConfig
 	}
-	m := newMachine()
+	m := newMachine(format)
 	m.offer(s)
 	var out strings.Builder
 	for m.run() == full {
@@ -22,4 +22,8 @@ func Mean(format int, s string) (string, api.Errno) {
 		return "", e
 	}
 	return out.String(), api.OK
+}
+
+func isFormat(format int) bool {
+	return format == api.Raw || format == api.Short || format == api.Long
 }

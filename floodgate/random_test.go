@@ -11,21 +11,23 @@ import (
 )
 
 // wantWords holds Mean against the document's words.
-func wantWords(t *testing.T, s string) api.Errno {
+func wantWords(t *testing.T, format int, s string) api.Errno {
 	t.Helper()
-	want, e := meanByWords(s)
-	if got, err := floodgate.Mean(api.Raw, s); got != want || err != e {
-		t.Fatalf("Mean(Raw, %q) = %.60q, %d, want %.60q, %d", s, got, err, want, e)
+	want, e := meanByWords(format, s)
+	if got, err := floodgate.Mean(format, s); got != want || err != e {
+		t.Fatalf("Mean(%d, %q) = %.60q, %d, want %.60q, %d", format, s, got, err, want, e)
 	}
 	return e
 }
 
 func TestP5AllShortStreams(t *testing.T) {
-	wantWords(t, "")
-	for first := range 256 {
-		wantWords(t, string([]byte{byte(first)}))
-		for second := range 256 {
-			wantWords(t, string([]byte{byte(first), byte(second)}))
+	for format := api.Raw; format <= api.Long; format++ {
+		wantWords(t, format, "")
+		for first := range 256 {
+			wantWords(t, format, string([]byte{byte(first)}))
+			for second := range 256 {
+				wantWords(t, format, string([]byte{byte(first), byte(second)}))
+			}
 		}
 	}
 }
@@ -171,6 +173,13 @@ func (m *maker) within(b bounds) int {
 // randomStream makes a stream, and tells what it means.
 func randomStream(seed uint64) (*maker, string) {
 	m := &maker{Rand: rand.New(rand.NewPCG(seed, 1))}
+	return m.next()
+}
+
+// next makes another stream, which has nothing of the one before.
+func (m *maker) next() (*maker, string) {
+	m.out = ""
+	m.bits.Reset()
 	for range m.IntN(5) {
 		m.block(more)
 	}
@@ -182,7 +191,7 @@ func TestP5MadeStreams(t *testing.T) {
 	for seed := range uint64(120) {
 		m, bits := randomStream(seed)
 		wantMean(t, "a made stream", bits, m.out)
-		if got, e := meanByWords(pack(bits)); got != m.out || e != api.OK {
+		if got, e := meanByWords(api.Raw, pack(bits)); got != m.out || e != api.OK {
 			t.Fatalf("the words do not hold of %q: %q, %d", bits, got, e)
 		}
 	}
@@ -198,14 +207,14 @@ func TestP5MarredStreams(t *testing.T) {
 			for range 1 + m.IntN(3) {
 				marred[m.IntN(len(s))] ^= 1 << m.IntN(8)
 			}
-			seen[wantWords(t, string(marred))]++
-			wantWords(t, string(marred[m.IntN(len(s)):]))
+			seen[wantWords(t, api.Raw, string(marred))]++
+			wantWords(t, api.Raw, string(marred[m.IntN(len(s)):]))
 		}
 		// The begin is where most goes wrong.
 		for flipped := range min(8*len(s), 120) {
 			marred := []byte(s)
 			marred[flipped/8] ^= 1 << (flipped % 8)
-			seen[wantWords(t, string(marred))]++
+			seen[wantWords(t, api.Raw, string(marred))]++
 		}
 	}
 	for e, count := range seen {
@@ -223,9 +232,9 @@ func TestP5MarredStreamsInPieces(t *testing.T) {
 		for range 10 {
 			marred := []byte(s)
 			marred[m.IntN(len(s))] ^= 1 << m.IntN(8)
-			want, e := meanByWords(string(marred))
+			want, e := meanByWords(api.Raw, string(marred))
 			wantAnswer(t, "a marred stream", string(marred), want, e)
-			_, whole, _ := floodgate.MeanByPieces(string(marred), len(s), 64)
+			_, whole, _ := floodgate.MeanByPieces(api.Raw, string(marred), len(s), 64)
 			wantTaken(t, "a marred stream", string(marred), whole)
 		}
 	}

@@ -240,11 +240,16 @@ func lengths(symbols int, given map[int]int) []int {
 // wantAnswer asks Mean, and the machine beneath it, with other pieces and drains.
 func wantAnswer(t *testing.T, name, s, want string, e api.Errno) {
 	t.Helper()
-	if got, err := floodgate.Mean(api.Raw, s); got != want || err != e {
-		t.Fatalf("%s: Mean(Raw, %.60q) = %.60q, %d, want %.60q, %d", name, s, got, err, want, e)
+	wantAnswerIn(t, api.Raw, name, s, want, e)
+}
+
+func wantAnswerIn(t *testing.T, format int, name, s, want string, e api.Errno) {
+	t.Helper()
+	if got, err := floodgate.Mean(format, s); got != want || err != e {
+		t.Fatalf("%s: Mean(%d, %.60q) = %.60q, %d, want %.60q, %d", name, format, s, got, err, want, e)
 	}
 	for _, c := range []struct{ size, most int }{{1, 64}, {2, 63}, {7, 1}, {len(s) + 1, 5}} {
-		if got, _, err := floodgate.MeanByPieces(s, c.size, c.most); got != want || err != e {
+		if got, _, err := floodgate.MeanByPieces(format, s, c.size, c.most); got != want || err != e {
 			t.Fatalf("%s: %.60q in pieces of %d, drained by %d: %.60q, %d, want %.60q, %d", name, s, c.size, c.most, got, err, want, e)
 		}
 	}
@@ -270,12 +275,17 @@ func wantMean(t *testing.T, name, bits, want string) {
 // wantAllShort checks that a stream is still waited for at each of its bytes: at some of them, if there are many.
 func wantAllShort(t *testing.T, name, s string) {
 	t.Helper()
+	wantAllShortIn(t, api.Raw, name, s)
+}
+
+func wantAllShortIn(t *testing.T, format int, name, s string) {
+	t.Helper()
 	for end := 0; end < len(s); end++ {
 		if end > 300 && end < len(s)-20 {
 			end += len(s) / 50
 		}
-		if got, err := floodgate.Mean(api.Raw, s[:min(end, len(s)-1)]); got != "" || err != api.ErrShort {
-			t.Fatalf("%s: Mean(Raw, %.60q), which ends at %d: %.60q, %d, want ErrShort", name, s, end, got, err)
+		if got, err := floodgate.Mean(format, s[:min(end, len(s)-1)]); got != "" || err != api.ErrShort {
+			t.Fatalf("%s: Mean(%d, %.60q), which ends at %d: %.60q, %d, want ErrShort", name, format, s, end, got, err)
 		}
 	}
 }
@@ -318,8 +328,13 @@ func wantRefusedHere(t *testing.T, name, bits string, e api.Errno) {
 // wantTaken checks that a stream is refused before more bytes than these are taken.
 func wantTaken(t *testing.T, name, s string, want int) {
 	t.Helper()
+	wantTakenIn(t, api.Raw, name, s, want)
+}
+
+func wantTakenIn(t *testing.T, format int, name, s string, want int) {
+	t.Helper()
 	for _, size := range []int{1, 2, len(s)} {
-		if _, taken, _ := floodgate.MeanByPieces(s, size, 64); taken != want {
+		if _, taken, _ := floodgate.MeanByPieces(format, s, size, 64); taken != want {
 			t.Fatalf("%s: %.60q in pieces of %d: %d bytes taken, want %d", name, s, size, taken, want)
 		}
 	}

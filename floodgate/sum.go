@@ -5,10 +5,23 @@ const modulus = 65521
 
 // Sum tells the sum of some bytes (P3).
 func Sum(s string) int {
-	x, y := 1, 0
+	all := emptySum()
 	for i := range len(s) {
-		x = (x + int(s[i])) % modulus
-		y = (y + x) % modulus
+		all.add(s[i])
 	}
-	return 65536*y + x
+	return all.number()
 }
+
+// sum is the two numbers of a sum of which not all bytes need be known yet.
+type sum struct {
+	x, y int
+}
+
+func emptySum() sum { return sum{x: 1} }
+
+func (s *sum) add(b byte) {
+	s.x = (s.x + int(b)) % modulus
+	s.y = (s.y + s.x) % modulus
+}
+
+func (s sum) number() int { return 65536*s.y + s.x }

@@ -11,28 +11,82 @@ var fixedTexts = sync.OnceValues(func() (literals, distances map[string]int) {
 	return codeTexts(fixedSet()), codeTexts(repeated(4, 16))
 })
 
-// reader goes through a whole Raw stream by the document's words; what is wrong it throws as an api.Errno.
+// reader goes through a whole stream by the document's words; what is wrong it throws as an api.Errno.
 type reader struct {
 	s   string
-	at  int // in bits
-	out []byte
+	at  int    // in bits
+	out []byte // of this member
 }
 
-// meanByWords tells what a Raw stream means, worked out with texts of bits.
-func meanByWords(s string) (out string, e api.Errno) {
+// meanByWords tells what a stream means, worked out with texts of bits.
+func meanByWords(format int, s string) (out string, e api.Errno) {
 	r := &reader{s: s}
 	defer func() {
 		if thrown := recover(); thrown != nil {
 			out, e = "", thrown.(api.Errno)
 		}
 	}()
+	for {
+		out += r.member(format)
+		if r.at == 8*len(s) {
+			return out, api.OK
+		}
+		mustBe(format == api.Long, api.ErrTrail)
+	}
+}
+
+func mustBe(holds bool, e api.Errno) {
+	if !holds {
+		panic(e)
+	}
+}
+
+// member tells what comes out of a member.
+func (r *reader) member(format int) string {
+	r.out = nil
+	switch format {
+	case api.Short:
+		mustBe(r.number(8) == 's', api.ErrHead)
+		mustBe(r.number(8) == 1, api.ErrHead)
+	case api.Long:
+		r.longHead()
+	}
 	for !r.block() {
 	}
 	r.skip()
-	if r.at < 8*len(s) {
-		panic(api.ErrTrail)
+	if format != api.Raw {
+		mustBe(r.text(4) == sumBytes(string(r.out)), api.ErrSum)
 	}
-	return string(r.out), api.OK
+	if format == api.Long {
+		mustBe(r.text(2) == sizeBytes(string(r.out)), api.ErrSize)
+	}
+	return string(r.out)
+}
+
+func (r *reader) longHead() {
+	from := r.at / 8
+	mustBe(r.number(8) == 'L', api.ErrHead)
+	mustBe(r.number(8) == 2, api.ErrHead)
+	marks := r.number(8)
+	mustBe(marks < 8, api.ErrHead)
+	texts := []int{0, 1, 1, 2}[marks%4]
+	for range texts {
+		for r.number(8) != 0 {
+		}
+	}
+	if marks >= 4 {
+		ahead := r.s[from : r.at/8]
+		mustBe(r.text(1) == checkByte(ahead), api.ErrHead)
+	}
+}
+
+// text reads so many bytes.
+func (r *reader) text(bytes int) string {
+	text := make([]byte, bytes)
+	for i := range text {
+		text[i] = byte(r.number(8))
+	}
+	return string(text)
 }
 
 func (r *reader) bit() int {
@@ -115,9 +169,7 @@ func (r *reader) symbol(texts map[string]int) int {
 }
 
 func must(holds bool) {
-	if !holds {
-		panic(api.ErrCodes)
-	}
+	mustBe(holds, api.ErrCodes)
 }
 
 // isComplete tells apart the set with a single code, which has codes too.

@@ -28,6 +28,9 @@ func (r *Ring[T]) Push(thing T) {
 	r.count++
 }
 
+// Clear lets the ring hold nothing.
+func (r *Ring[T]) Clear() { r.count = 0 }
+
 // Back tells what was pushed so many pushes ago: 1 is the last push, Len the farthest back.
 func (r *Ring[T]) Back(pushes int) T {
 	return r.cells[r.place(r.count-pushes)]

@@ -101,3 +101,22 @@ func TestRingsAreApart(t *testing.T) {
 	wantHeld(t, first, 2, []int{1})
 	wantHeld(t, second, 2, []int{2})
 }
+
+func TestClearLeavesNothing(t *testing.T) {
+	for size := 1; size <= 4; size++ {
+		for pushes := range 3 * size {
+			r := ring.New[int](size)
+			for n := range pushes {
+				r.Push(n)
+			}
+			r.Clear()
+			wantHeld(t, r, size, nil)
+			var pushed []int
+			for n := range 2 * size {
+				r.Push(100 + n)
+				pushed = append(pushed, 100+n)
+				wantHeld(t, r, size, pushed[max(0, len(pushed)-size):])
+			}
+		}
+	}
+}
