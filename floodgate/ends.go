@@ -2,7 +2,7 @@ package floodgate
 
 import "floodgate/api"
 
-// goThroughEnd goes from behind the blocks of a member to the first byte of the next one, which only Long may have.
+// goThroughEnd goes from behind the blocks of a member to the first byte behind its end, which only Long may have.
 func (m *machine) goThroughEnd() pause {
 	switch m.state {
 	case memberSum:
@@ -21,16 +21,16 @@ func (m *machine) goThroughEnd() pause {
 		if standing := m.need(8); standing != moving {
 			return standing
 		}
-		if m.format != api.Long {
+		if m.config.Format != api.Long {
 			return m.refuse(api.ErrTrail)
 		}
-		m.beginMember()
+		m.state = memberBegin
 	}
 	return moving
 }
 
 func (m *machine) passSum() pause {
-	if m.format == api.Raw {
+	if m.config.Format == api.Raw {
 		return moving
 	}
 	if standing := m.need(32); standing != moving {
@@ -47,7 +47,7 @@ func (m *machine) passSum() pause {
 }
 
 func (m *machine) passSize() pause {
-	if m.format != api.Long {
+	if m.config.Format != api.Long {
 		return moving
 	}
 	if standing := m.need(16); standing != moving {

@@ -8,33 +8,29 @@ import (
 
 // MeanByPieces goes through a stream as Mean does, but is offered it in pieces of so many bytes, and drains so many bytes at a time. It tells how many bytes were taken, too.
 func MeanByPieces(format int, s string, size, most int) (string, int, api.Errno) {
-	m := newMachine(format)
+	m := newMachine(withoutQuotas(format))
 	var out strings.Builder
-	taken := 0
-	for taken < len(s) && m.err == api.OK {
-		piece := s[taken:min(len(s), taken+size)]
+	for m.tally.taken < len(s) && m.err == api.OK {
+		piece := s[m.tally.taken:min(len(s), m.tally.taken+size)]
 		half := len(piece) / 2
-		m.offer(piece[:half], "", piece[half:])
-		runAndDrain(m, &out, most)
-		taken += len(piece) - m.supply.left()
+		m.run(piece[:half], "", piece[half:])
+		drainAll(m, &out, most)
 	}
-	runAndDrain(m, &out, most)
 	if e := m.verdict(); e != api.OK {
-		return "", taken, e
+		return "", m.tally.taken, e
 	}
-	return out.String(), taken, api.OK
+	return out.String(), m.tally.taken, api.OK
 }
 
-func runAndDrain(m *machine, out *strings.Builder, most int) {
-	for m.err == api.OK && m.run() == full {
+// drainAll goes on until nothing waits, and no more can come out.
+func drainAll(m *machine, out *strings.Builder, most int) {
+	for m.err == api.OK && m.waiting.Len() > 0 {
 		out.Write(m.waiting.Take(most))
-	}
-	for m.waiting.Len() > 0 {
-		out.Write(m.waiting.Take(most))
+		m.run()
 	}
 }
 
-// left tells how many bytes were not taken.
-func (s *supply) left() int {
-	return len(strings.Join(s.pieces, "")) - s.at
+// KeepsPieces tells whether a gate can still reach what it was offered.
+func KeepsPieces(g *Gate) bool {
+	return len(g.machine.supply.pieces) > 0
 }

@@ -2,7 +2,7 @@ package floodgate
 
 import "floodgate/api"
 
-// The marks of a Long head; a Short one has none.
+// The marks of a Long head; a Short one has none, and Raw has no head.
 const (
 	nameMark  = 1
 	noteMark  = 2
@@ -10,18 +10,24 @@ const (
 	allMarks  = nameMark + noteMark + checkMark
 )
 
-// goThroughHead goes through all parts of a head, over those that the format or the marks leave out.
+// goThroughHead begins a member, and goes through all parts of its head, over those that the format or the marks leave out.
 func (m *machine) goThroughHead() pause {
-	first, second := fixedBytes(m.format)
+	first, second := fixedBytes(m.config.Format)
 	switch m.state {
+	case memberBegin:
+		if standing := m.beginMember(); standing != moving {
+			return standing
+		}
+		m.state = headFirst
+		fallthrough
 	case headFirst:
-		if standing := m.passByte(first); standing != moving {
+		if standing := m.passFixed(first); standing != moving {
 			return standing
 		}
 		m.state = headSecond
 		fallthrough
 	case headSecond:
-		if standing := m.passByte(second); standing != moving {
+		if standing := m.passFixed(second); standing != moving {
 			return standing
 		}
 		m.state = headMarks
@@ -53,6 +59,20 @@ func (m *machine) goThroughHead() pause {
 	return moving
 }
 
+// beginMember needs the member's first byte, and leaves it in hand. The member before is forgotten: nothing leads back into it.
+func (m *machine) beginMember() pause {
+	if standing := m.need(8); standing != moving {
+		return standing
+	}
+	if m.tally.members == m.config.Members {
+		return m.refuse(api.ErrMembers)
+	}
+	m.tally.members++
+	m.member = member{sum: emptySum()}
+	m.window.Clear()
+	return moving
+}
+
 // fixedBytes tells those with which a head of Short or Long begins.
 func fixedBytes(format int) (first, second byte) {
 	if format == api.Short {
@@ -65,7 +85,11 @@ func (m *machine) takeHeadByte() (byte, pause) {
 	if standing := m.need(8); standing != moving {
 		return 0, standing
 	}
+	if m.member.head == m.config.Head {
+		return 0, m.refuse(api.ErrLong)
+	}
 	taken := byte(m.bits.read(8))
+	m.member.head++
 	m.member.headSum += taken
 	return taken, moving
 }
@@ -81,8 +105,15 @@ func (m *machine) passByte(want byte) pause {
 	return moving
 }
 
+func (m *machine) passFixed(want byte) pause {
+	if m.config.Format == api.Raw {
+		return moving
+	}
+	return m.passByte(want)
+}
+
 func (m *machine) passMarks() pause {
-	if m.format != api.Long {
+	if m.config.Format != api.Long {
 		return moving
 	}
 	taken, standing := m.takeHeadByte()

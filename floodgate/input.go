@@ -10,17 +10,19 @@ func supplyOf(pieces ...string) supply {
 	return supply{pieces: pieces}
 }
 
-// next takes the next byte, and tells whether there is one.
-func (s *supply) next() (byte, bool) {
+// isEmpty passes over the pieces that have no byte left.
+func (s *supply) isEmpty() bool {
 	for len(s.pieces) > 0 && s.at == len(s.pieces[0]) {
 		s.pieces, s.at = s.pieces[1:], 0
 	}
-	if len(s.pieces) == 0 {
-		return 0, false
-	}
+	return len(s.pieces) == 0
+}
+
+// next takes the next byte of a supply that is not empty.
+func (s *supply) next() byte {
 	next := s.pieces[0][s.at]
 	s.at++
-	return next, true
+	return next
 }
 
 // bits are those of the bytes taken that are not read yet.

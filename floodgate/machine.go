@@ -10,7 +10,8 @@ import (
 type state int
 
 const (
-	headFirst state = iota
+	memberBegin state = iota
+	headFirst
 	headSecond
 	headMarks
 	headName
@@ -48,9 +49,10 @@ const (
 
 // machine goes through a stream, and can stop at any byte.
 type machine struct {
-	format  int
+	config  api.Config
 	state   state
 	err     api.Errno
+	tally   tally
 	supply  supply
 	bits    bits
 	waiting *ring.Ring[byte] // what is put out and not drained
@@ -70,49 +72,35 @@ type machine struct {
 // member is what is kept of the member that the machine is in, beside its window.
 type member struct {
 	marks   byte   // of its head
-	headSum byte   // of the bytes of its head so far
+	head    int    // how many bytes its head has so far
+	headSum byte   // of these bytes
 	sum     sum    // of what came out of it
 	size    uint16 // how many bytes came out of it
 }
 
-// newMachine makes one for a format that there is.
-func newMachine(format int) *machine {
-	m := &machine{
-		format:  format,
+// newMachine makes one for a configuration whose format there is.
+func newMachine(config api.Config) *machine {
+	return &machine{
+		config:  config,
 		waiting: ring.New[byte](api.Room),
 		window:  ring.New[byte](api.Window),
 	}
-	m.beginMember()
-	return m
 }
 
-// beginMember forgets the member before: nothing leads back into it.
-func (m *machine) beginMember() {
-	m.member = member{sum: emptySum()}
-	m.window.Clear()
-	m.state = headFirst
-	if m.format == api.Raw {
-		m.state = blockHead
-	}
-}
-
-// offer hands the machine bytes that it may take; those it was offered before are forgotten.
-func (m *machine) offer(pieces ...string) {
+// run goes on as far as it can with the pieces that are offered. It forgets what it did not take of them, as none of it may be kept.
+func (m *machine) run(pieces ...string) pause {
 	m.supply = supplyOf(pieces...)
-}
-
-// run goes on as far as it can.
-func (m *machine) run() pause {
 	standing := moving
 	for standing == moving {
-		standing = m.step()
+		standing = m.advance()
 	}
+	m.supply = supplyOf()
 	return standing
 }
 
-func (m *machine) step() pause {
+func (m *machine) advance() pause {
 	switch m.state {
-	case headFirst, headSecond, headMarks, headName, headNote, headCheck:
+	case memberBegin, headFirst, headSecond, headMarks, headName, headNote, headCheck:
 		return m.goThroughHead()
 	case blockHead:
 		return m.beginBlock()
@@ -137,28 +125,45 @@ func (m *machine) verdict() api.Errno {
 	return m.err
 }
 
+// refuse is for good: what waits is lost.
 func (m *machine) refuse(e api.Errno) pause {
 	m.err = e
+	m.waiting.Clear()
 	return refused
 }
 
 // need takes bytes until so many bits are in hand, and none that these bits do not reach into.
 func (m *machine) need(count int) pause {
 	for m.bits.count < count {
-		next, ok := m.supply.next()
-		if !ok {
-			return hungry
+		if standing := m.take(); standing != moving {
+			return standing
 		}
-		m.bits.add(next)
 	}
 	return moving
 }
 
-// put puts a byte out.
+// take takes a byte. No quota is looked at for one that is not offered.
+func (m *machine) take() pause {
+	if m.supply.isEmpty() {
+		return hungry
+	}
+	if e := m.tally.againstTake(m.config); e != api.OK {
+		return m.refuse(e)
+	}
+	m.bits.add(m.supply.next())
+	m.tally.taken++
+	return moving
+}
+
+// put puts a byte out. No quota is looked at for one that there is no room for.
 func (m *machine) put(b byte) pause {
 	if m.waiting.IsFull() {
 		return full
 	}
+	if e := m.tally.againstPut(m.config); e != api.OK {
+		return m.refuse(e)
+	}
+	m.tally.put++
 	m.waiting.Push(b)
 	m.window.Push(b)
 	m.member.sum.add(b)

@@ -11,10 +11,9 @@ func Mean(format int, s string) (string, api.Errno) {
 	if !isFormat(format) {
 		return "", api.ErrConfig
 	}
-	m := newMachine(format)
-	m.offer(s)
+	m := newMachine(withoutQuotas(format))
 	var out strings.Builder
-	for m.run() == full {
+	for m.run(s[m.tally.taken:]) == full {
 		out.Write(m.waiting.Take(api.Room))
 	}
 	out.Write(m.waiting.Take(api.Room))
@@ -22,8 +21,4 @@ func Mean(format int, s string) (string, api.Errno) {
 		return "", e
 	}
 	return out.String(), api.OK
-}
-
-func isFormat(format int) bool {
-	return format == api.Raw || format == api.Short || format == api.Long
 }

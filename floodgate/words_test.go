@@ -1,6 +1,7 @@
 package floodgate_test
 
 import (
+	"math"
 	"sync"
 
 	"floodgate/api"
@@ -11,27 +12,72 @@ var fixedTexts = sync.OnceValues(func() (literals, distances map[string]int) {
 	return codeTexts(fixedSet()), codeTexts(repeated(4, 16))
 })
 
-// reader goes through a whole stream by the document's words; what is wrong it throws as an api.Errno.
+// reader goes through a whole stream by the document's words; what is wrong it throws as an api.Errno, and api.OK at the end. Of the configuration it looks at the format, the members and the heads.
 type reader struct {
-	s   string
-	at  int    // in bits
-	out []byte // of this member
+	c       api.Config
+	s       string
+	at      int    // in bits
+	out     []byte // of this member
+	members int
+	head    int  // bytes of this member's head
+	fresh   bool // no byte of the member is taken
+	ended   bool // the stream may end here
+	events  []event
+}
+
+type eventKind int
+
+const (
+	taking eventKind = iota
+	putting
+	failing
+)
+
+// event is what a gate does, or finds wrong, on its way through a stream. The last one of a stream that is not wrong is the taking of a byte that is not there.
+type event struct {
+	kind   eventKind
+	ended  bool // the stream may end ahead of the byte that is taken
+	begins bool // a member begins with this byte
+	put    byte
+	e      api.Errno
 }
 
 // meanByWords tells what a stream means, worked out with texts of bits.
-func meanByWords(format int, s string) (out string, e api.Errno) {
-	r := &reader{s: s}
-	defer func() {
-		if thrown := recover(); thrown != nil {
-			out, e = "", thrown.(api.Errno)
+func meanByWords(format int, s string) (string, api.Errno) {
+	events, e := eventsByWords(api.Config{Format: format, Members: math.MaxInt, Head: math.MaxInt}, s)
+	if e != api.OK {
+		return "", e
+	}
+	return putOut(events), api.OK
+}
+
+// putOut is the bytes that are put out by some events.
+func putOut(events []event) string {
+	var out []byte
+	for _, v := range events {
+		if v.kind == putting {
+			out = append(out, v.put)
 		}
+	}
+	return string(out)
+}
+
+func eventsByWords(c api.Config, s string) (events []event, e api.Errno) {
+	r := &reader{c: c, s: s}
+	defer func() {
+		e = recover().(api.Errno)
+		if e != api.OK && e != api.ErrShort {
+			r.events = append(r.events, event{kind: failing, e: e})
+		}
+		events = r.events
 	}()
 	for {
-		out += r.member(format)
-		if r.at == 8*len(s) {
-			return out, api.OK
+		r.member()
+		r.ended = true
+		if c.Format != api.Long {
+			r.number(8)
+			panic(api.ErrTrail)
 		}
-		mustBe(format == api.Long, api.ErrTrail)
 	}
 }
 
@@ -41,42 +87,47 @@ func mustBe(holds bool, e api.Errno) {
 	}
 }
 
-// member tells what comes out of a member.
-func (r *reader) member(format int) string {
-	r.out = nil
-	switch format {
+func (r *reader) member() {
+	r.out, r.head, r.fresh = nil, 0, true
+	switch r.c.Format {
 	case api.Short:
-		mustBe(r.number(8) == 's', api.ErrHead)
-		mustBe(r.number(8) == 1, api.ErrHead)
+		mustBe(r.headByte() == 's', api.ErrHead)
+		mustBe(r.headByte() == 1, api.ErrHead)
 	case api.Long:
 		r.longHead()
 	}
 	for !r.block() {
 	}
 	r.skip()
-	if format != api.Raw {
+	if r.c.Format != api.Raw {
 		mustBe(r.text(4) == sumBytes(string(r.out)), api.ErrSum)
 	}
-	if format == api.Long {
+	if r.c.Format == api.Long {
 		mustBe(r.text(2) == sizeBytes(string(r.out)), api.ErrSize)
 	}
-	return string(r.out)
+}
+
+func (r *reader) headByte() int {
+	b := r.number(8)
+	r.head++
+	mustBe(r.head <= r.c.Head, api.ErrLong)
+	return b
 }
 
 func (r *reader) longHead() {
 	from := r.at / 8
-	mustBe(r.number(8) == 'L', api.ErrHead)
-	mustBe(r.number(8) == 2, api.ErrHead)
-	marks := r.number(8)
+	mustBe(r.headByte() == 'L', api.ErrHead)
+	mustBe(r.headByte() == 2, api.ErrHead)
+	marks := r.headByte()
 	mustBe(marks < 8, api.ErrHead)
 	texts := []int{0, 1, 1, 2}[marks%4]
 	for range texts {
-		for r.number(8) != 0 {
+		for r.headByte() != 0 {
 		}
 	}
 	if marks >= 4 {
 		ahead := r.s[from : r.at/8]
-		mustBe(r.text(1) == checkByte(ahead), api.ErrHead)
+		mustBe(r.headByte() == int(checkByte(ahead)[0]), api.ErrHead)
 	}
 }
 
@@ -90,12 +141,32 @@ func (r *reader) text(bytes int) string {
 }
 
 func (r *reader) bit() int {
-	if r.at == 8*len(r.s) {
-		panic(api.ErrShort)
+	if r.at%8 == 0 {
+		r.take()
 	}
 	bit := int(r.s[r.at/8]) >> (r.at % 8) & 1
 	r.at++
 	return bit
+}
+
+// take is called ahead of the first bit of each byte.
+func (r *reader) take() {
+	begins := r.fresh && r.members < r.c.Members
+	r.events = append(r.events, event{kind: taking, ended: r.ended, begins: begins})
+	if r.at == 8*len(r.s) {
+		mustBe(r.ended, api.ErrShort)
+		panic(api.OK)
+	}
+	if begins {
+		r.members++
+	}
+	mustBe(begins || !r.fresh, api.ErrMembers)
+	r.fresh, r.ended = false, false
+}
+
+func (r *reader) put(b byte) {
+	r.events = append(r.events, event{kind: putting, put: b})
+	r.out = append(r.out, b)
 }
 
 func (r *reader) number(bits int) int {
@@ -137,7 +208,7 @@ func (r *reader) plain() {
 		panic(api.ErrLength)
 	}
 	for range n {
-		r.out = append(r.out, byte(r.number(8)))
+		r.put(byte(r.number(8)))
 	}
 }
 
@@ -231,7 +302,7 @@ func (r *reader) content(literals, distances map[string]int) {
 		symbol := r.symbol(literals)
 		switch {
 		case symbol < 256:
-			r.out = append(r.out, byte(symbol))
+			r.put(byte(symbol))
 			continue
 		case symbol == 256:
 			return
@@ -242,7 +313,7 @@ func (r *reader) content(literals, distances map[string]int) {
 			panic(api.ErrDist)
 		}
 		for range length {
-			r.out = append(r.out, r.out[len(r.out)-distance])
+			r.put(r.out[len(r.out)-distance])
 		}
 	}
 }
